@@ -1,0 +1,133 @@
+"""What is an integer, a fraction, a state, variables, shares, values and a table, asked of any object."""
+
+from math import gcd
+
+from alikechances.words import is_name
+
+MOST_VARIABLES = 4
+LEAST_SIZE = 2
+MOST_SIZE = 6
+MOST_STATES = 24
+
+
+def is_integer(thing):
+    """Whether any object is an int and no bool."""
+    return isinstance(thing, int) and not isinstance(thing, bool)
+
+
+def is_between(thing, low, high):
+    """Whether any object is an integer from low to high."""
+    return is_integer(thing) and low <= thing <= high
+
+
+def is_tuple_of(thing, many):
+    """Whether any object is a tuple of so many."""
+    return isinstance(thing, tuple) and len(thing) == many
+
+
+def is_fraction(thing):
+    """Whether any object is a fraction, in lowest terms or not."""
+    return is_tuple_of(thing, 2) and is_integer(thing[0]) and is_integer(thing[1]) and thing[1] >= 1
+
+
+def is_weight(thing):
+    """Whether any object is a fraction from 0 on in lowest terms, as tables want it."""
+    return is_fraction(thing) and thing[0] >= 0 and gcd(thing[0], thing[1]) == 1
+
+
+def is_share(thing):
+    """Whether any object is a fraction from 0 to 1."""
+    return is_fraction(thing) and 0 <= thing[0] <= thing[1]
+
+
+def are_names(thing):
+    """Whether any object is a tuple of names, none of them twice."""
+    if not isinstance(thing, tuple) or not all([is_name(name) for name in thing]):
+        return False
+    return len(set(thing)) == len(thing)
+
+
+def is_sized_name(thing):
+    """Whether any object is a variable: a name with a size."""
+    return is_tuple_of(thing, 2) and is_name(thing[0]) and is_between(thing[1], LEAST_SIZE, MOST_SIZE)
+
+
+def state_count(variables):
+    """How many states variables have."""
+    many = 1
+    for _, size in variables:
+        many *= size
+    return many
+
+
+def are_variables(thing):
+    """Whether any object is variables."""
+    if not isinstance(thing, tuple) or not 1 <= len(thing) <= MOST_VARIABLES:
+        return False
+    if not all([is_sized_name(variable) for variable in thing]):
+        return False
+    return are_names(tuple([name for name, _ in thing])) and state_count(thing) <= MOST_STATES
+
+
+def is_tuple_of_integers(thing):
+    """Whether any object is a state by itself, of whatever variables."""
+    return isinstance(thing, tuple) and all([is_integer(value) for value in thing])
+
+
+def is_world_alone(thing):
+    """Whether any object is a world by itself, of whatever program."""
+    return is_tuple_of_integers(thing) and all([place >= 0 for place in thing])
+
+
+def fits_state(state, variables):
+    """Whether a tuple of integers is a state of the variables."""
+    if len(state) != len(variables):
+        return False
+    return all([0 <= value < size for value, (_, size) in zip(state, variables)])
+
+
+def is_share_of_state(thing):
+    """Whether any object is a tuple (state, fraction above 0), of whatever variables."""
+    if not is_tuple_of(thing, 2) or not is_tuple_of_integers(thing[0]):
+        return False
+    return is_fraction(thing[1]) and thing[1][0] > 0
+
+
+def are_shares(thing):
+    """Whether any object is shares by itself, of whatever variables."""
+    if not isinstance(thing, list) or not thing or not all([is_share_of_state(part) for part in thing]):
+        return False
+    return all([thing[at][0] < thing[at + 1][0] for at in range(len(thing) - 1)])
+
+
+def are_values(thing):
+    """Whether any object is values by itself, however many."""
+    return isinstance(thing, tuple) and all([is_fraction(value) for value in thing])
+
+
+def is_row(thing, many):
+    """Whether any object is a row of a table with so many states."""
+    if not is_tuple_of(thing, 3) or not is_tuple_of(thing[0], many):
+        return False
+    weights = (*thing[0], thing[1], thing[2])
+    return all([is_weight(weight) for weight in weights]) and are_together_one(weights)
+
+
+def are_together_one(weights):
+    """Whether fractions add up to 1."""
+    above = 0
+    below = 1
+    for part, whole in weights:
+        above = above * whole + part * below
+        below = below * whole
+        shared = gcd(above, below)
+        above //= shared
+        below //= shared
+    return above == below
+
+
+def is_table_alone(thing):
+    """Whether any object is a table by itself, of whatever variables."""
+    if not isinstance(thing, tuple) or len(thing) < 2:
+        return False
+    return all([is_row(row, len(thing)) for row in thing])

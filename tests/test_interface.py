@@ -1,0 +1,53 @@
+"""Names, parameters and files of the interface, for the parts that have landed."""
+
+import importlib
+import inspect
+import unittest
+
+INTERFACE = {
+    "programs": {
+        "is_program": "thing", "states_of": "variables", "names_in": "program", "names_set": "program",
+        "value_of": "expression variables state", "holds": "condition variables state",
+        "states_where": "variables condition", "size_of": "program", "has_loops": "program",
+        "has_choices": "program",
+    },
+    "texts": {"read_program": "text", "write_program": "program"},
+    "building": {
+        "then": "program other", "either": "condition program other", "around": "condition program",
+        "with_vars": "program variables", "renamed": "program names",
+    },
+    "worlds": {
+        "worlds": "program state", "world_of": "program state number", "run_world": "program state thing",
+        "worlds_table": "program", "unrolled": "program count", "lost": "program state count",
+    },
+    "tables": {
+        "table": "program", "is_table": "variables thing", "joined": "variables table other",
+        "mixed": "variables table other share", "looped": "condition variables table",
+    },
+    "ahead": {
+        "ahead": "program shares", "chance": "program shares condition", "chance_never": "program shares",
+        "chances": "program shares",
+    },
+    "values": {
+        "behind": "program values", "let_by": "program", "never": "program", "wanted": "program values shares",
+    },
+}
+
+
+class InterfaceTest(unittest.TestCase):
+    def test_functions_stand_in_their_files_with_their_parameters(self):
+        for file, functions in INTERFACE.items():
+            module = importlib.import_module(f"alikechances.{file}")
+            for name, parameters in functions.items():
+                with self.subTest(f"{file}.{name}"):
+                    function = getattr(module, name)
+                    self.assertEqual(function.__module__, f"alikechances.{file}")
+                    told = list(inspect.signature(function).parameters.values())
+                    self.assertEqual([parameter.name for parameter in told], parameters.split())
+                    for parameter in told:
+                        self.assertEqual(parameter.kind, parameter.POSITIONAL_OR_KEYWORD)
+                        self.assertIs(parameter.default, parameter.empty)
+
+
+if __name__ == "__main__":
+    unittest.main()

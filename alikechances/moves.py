@@ -13,7 +13,7 @@ class Space:
     """The states of variables, and what statements without choices do with them."""
 
     def __init__(self, variables):
-        self.variables = variables
+        self.sized = {name: (place, size) for place, (name, size) in enumerate(variables)}
         self.states = all_states(variables)
         self.numbers = {state: number for number, state in enumerate(self.states)}
         self.named = [named_values(variables, state) for state in self.states]
@@ -22,16 +22,9 @@ class Space:
         """For each state whether a condition holds."""
         return [truth_of(condition, values) for values in self.named]
 
-    def place_of(self, name):
-        """The place of a variable, and its size."""
-        for place, (known, size) in enumerate(self.variables):
-            if known == name:
-                return (place, size)
-        return None
-
     def targets(self, name, expression):
         """For each state the number of the one behind, once a variable is set."""
-        place, size = self.place_of(name)
+        place, size = self.sized[name]
         found = []
         for state, values in zip(self.states, self.named):
             value = number_of(expression, values) % size

@@ -34,6 +34,13 @@ def need_few(many):
         raise TooMany("there are more than two thousand worlds")
 
 
+def begun(program, state):
+    """The space of a program, its move, and the number of a state; BadState if it is none of the program's."""
+    need_fitting_state(state, program[0])
+    space = Space(program[0])
+    return (space, space.move(program[1]), space.numbers[state])
+
+
 def world_list(space, move, number):
     """The list of (world, weight, end), ascending, from the state with a number."""
     refused = len(space.states)
@@ -49,10 +56,7 @@ def worlds(program, state):
     need_program(program)
     need_state(state)
     need_straight(program)
-    need_fitting_state(state, program[0])
-    space = Space(program[0])
-    move = space.move(program[1])
-    start = space.numbers[state]
+    space, move, start = begun(program, state)
     need_few(world_count(move, len(space.states), start))
     return world_list(space, move, start)
 
@@ -63,10 +67,7 @@ def world_of(program, state, number):
     need_state(state)
     need_number(number)
     need_straight(program)
-    need_fitting_state(state, program[0])
-    space = Space(program[0])
-    move = space.move(program[1])
-    start = space.numbers[state]
+    space, move, start = begun(program, state)
     many = world_count(move, len(space.states), start)
     if number >= many:
         raise BadNumber("there are not so many worlds")
@@ -80,10 +81,9 @@ def run_world(program, state, thing):
     need_state(state)
     need_world(thing)
     need_straight(program)
-    need_fitting_state(state, program[0])
-    space = Space(program[0])
-    walk = Walk(thing, space.numbers[state], len(space.states))
-    walk.go(space.move(program[1]))
+    space, move, start = begun(program, state)
+    walk = Walk(thing, start, len(space.states))
+    walk.go(move)
     walk.finish()
     return [space.states[place] for place in walk.places]
 

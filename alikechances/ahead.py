@@ -1,14 +1,8 @@
 """Shares of states carried ahead through a program."""
 
-from alikechances.checks import (
-    need_condition,
-    need_fitting_shares,
-    need_known_condition,
-    need_no_choices,
-    need_program,
-    need_shares,
-)
+from alikechances.checks import need_condition, need_no_choices, need_program, need_shares
 from alikechances.exact import lowest, total
+from alikechances.fits import need_fitting_shares, need_known_condition
 from alikechances.flows import row_behind
 from alikechances.moves import Space
 

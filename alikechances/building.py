@@ -1,14 +1,8 @@
 """Programs put together of others."""
 
-from alikechances.checks import (
-    need_condition,
-    need_known_condition,
-    need_names,
-    need_program,
-    need_same_vars,
-    need_vars,
-)
+from alikechances.checks import need_condition, need_names, need_program, need_vars
 from alikechances.errors import BadNames, NotAlike
+from alikechances.fits import need_known_condition, need_same_vars
 
 
 def in_order(statement):

@@ -1,52 +1,65 @@
-"""The errors that the functions of the package raise for what is handed in, each with its look at it."""
+"""The errors of kind, each with its look at what is handed in, then HasLoops and HasChoices."""
 
 from alikechances.errors import (
+    BadCoins,
     BadCondition,
     BadCount,
     BadExpression,
+    BadName,
     BadNames,
     BadNumber,
+    BadPairs,
+    BadParts,
     BadProgram,
     BadShare,
     BadShares,
     BadState,
     BadTable,
+    BadTickets,
     BadValues,
     BadVars,
     BadWorld,
     HasChoices,
     HasLoops,
-    NotAlike,
 )
 from alikechances.kinds import (
+    are_counted_states,
+    are_from_0,
     are_names,
+    are_parts,
     are_shares,
     are_values,
+    are_values_from_0,
     are_variables,
-    fits_state,
     is_between,
+    is_coin_machine,
     is_integer,
     is_share,
     is_table_alone,
     is_tuple_of_integers,
-    is_world_alone,
-    state_count,
+    wrong_ticket,
 )
 from alikechances.trees import (
     DEEPEST_EXPRESSION,
+    are_pairs,
     is_condition,
     is_expression,
     is_whole_program,
-    read_names,
-    stand_among,
     statements_in,
 )
+from alikechances.words import is_name
 
 
 def need_program(thing):
     """BadProgram for any object that is no program."""
     if not is_whole_program(thing):
         raise BadProgram("this is no program")
+
+
+def need_two_programs(program, other):
+    """BadProgram for either that is none."""
+    need_program(program)
+    need_program(other)
 
 
 def need_vars(thing):
@@ -75,8 +88,14 @@ def need_state(thing):
 
 def need_world(thing):
     """BadWorld for any object that is no world by itself."""
-    if not is_world_alone(thing):
+    if not are_from_0(thing):
         raise BadWorld("this is no world")
+
+
+def need_name(thing):
+    """BadName for any object that is no name by itself."""
+    if not is_name(thing):
+        raise BadName("this is no name")
 
 
 def need_names(thing):
@@ -91,10 +110,10 @@ def need_number(thing):
         raise BadNumber("this is no number from 0 on")
 
 
-def need_count(thing, most):
-    """BadCount for any object that is no integer from 0 to most."""
-    if not is_between(thing, 0, most):
-        raise BadCount(f"this is no number from 0 to {most}")
+def need_count(thing, most, least=0):
+    """BadCount for any object that is no integer from least to most."""
+    if not is_between(thing, least, most):
+        raise BadCount(f"this is no number from {least} to {most}")
 
 
 def need_share(thing):
@@ -109,16 +128,67 @@ def need_shares(thing):
         raise BadShares("these are no shares")
 
 
+def need_pairs(thing):
+    """BadPairs for any object that is no pairs of a draw by itself."""
+    if not are_pairs(thing):
+        raise BadPairs("these are no pairs of a draw")
+
+
+def need_counted_states(thing):
+    """BadPairs for any object that is no pairs of states with numbers by itself."""
+    if not are_counted_states(thing):
+        raise BadPairs("these are no pairs of states with numbers")
+
+
 def need_values(thing):
     """BadValues for any object that is no values by itself."""
     if not are_values(thing):
         raise BadValues("these are no values")
 
 
+def need_values_from_0(thing):
+    """BadValues for any object that is no values by itself, or has one below 0."""
+    if not are_values_from_0(thing):
+        raise BadValues("these are no values from 0 on")
+
+
 def need_table(thing):
     """BadTable for any object that is no table by itself."""
     if not is_table_alone(thing):
         raise BadTable("this is no table")
+
+
+def need_two_tables(variables, table, other):
+    """BadVars, BadTable for what is none by itself."""
+    need_vars(variables)
+    need_table(table)
+    need_table(other)
+
+
+def need_loop_table(condition, variables, table):
+    """BadCondition, BadVars, BadTable for what is none by itself."""
+    need_condition(condition)
+    need_vars(variables)
+    need_table(table)
+
+
+def need_tickets(thing):
+    """BadTickets, with its place, for any object that is no tickets by itself."""
+    place = wrong_ticket(thing)
+    if place is not None:
+        raise BadTickets(place)
+
+
+def need_coins(thing):
+    """BadCoins for any object that is no coin machine."""
+    if not is_coin_machine(thing):
+        raise BadCoins("this is no coin machine")
+
+
+def need_parts(thing, least):
+    """BadParts for any object that is no parts, so many or more."""
+    if not are_parts(thing) or len(thing) < least:
+        raise BadParts("these are no parts")
 
 
 def need_no_loops(program):
@@ -131,45 +201,3 @@ def need_no_choices(program):
     """HasChoices for a program with a choose."""
     if any([statement[0] == "choose" for statement in statements_in(program[1])]):
         raise HasChoices("a choose stands in the program")
-
-
-def need_known_expression(expression, variables):
-    """BadExpression for an expression with a name that does not stand among the variables."""
-    if not stand_among(read_names(expression), variables):
-        raise BadExpression("a name of the expression is no variable")
-
-
-def need_known_condition(condition, variables):
-    """BadCondition for a condition with a name that does not stand among the variables."""
-    if not stand_among(read_names(condition), variables):
-        raise BadCondition("a name of the condition is no variable")
-
-
-def need_fitting_state(state, variables):
-    """BadState for a tuple of integers that is no state of the variables."""
-    if not fits_state(state, variables):
-        raise BadState("this is no state of the variables")
-
-
-def need_fitting_shares(shares, variables):
-    """BadShares for shares with what is no state of the variables."""
-    if not all([fits_state(state, variables) for state, _ in shares]):
-        raise BadShares("these are no shares of states of the variables")
-
-
-def need_fitting_values(values, variables):
-    """BadValues for values that are more or fewer than the states."""
-    if len(values) != state_count(variables):
-        raise BadValues("these are not as many values as there are states")
-
-
-def need_fitting_table(table, variables):
-    """BadTable for a table with more or fewer rows than there are states."""
-    if len(table) != state_count(variables):
-        raise BadTable("this is no table for the variables")
-
-
-def need_same_vars(program, other):
-    """NotAlike for two programs of which the variables are not equal tuples."""
-    if program[0] != other[0]:
-        raise NotAlike("the programs have different variables")

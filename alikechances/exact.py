@@ -26,6 +26,11 @@ def over(one, other):
     return lowest(one[0] * other[1], one[1] * other[0])
 
 
+def is_at_most(one, other):
+    """Whether the first fraction is at most as great as the second one."""
+    return one[0] * other[1] <= other[0] * one[1]
+
+
 def total(fractions):
     """The sum of a list of fractions."""
     found = NOTHING

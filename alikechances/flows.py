@@ -7,7 +7,15 @@ many times each time they are come to, what would go on counted as endless.
 from math import lcm
 
 from alikechances.moves import Space
-from alikechances.rows import looped_rows, row_through, simplest, sum_of_rows, unit_row, unit_rows
+from alikechances.rows import (
+    joined_rows,
+    looped_rows,
+    rows_of_rounds,
+    simplest,
+    sum_of_rows,
+    unit_row,
+    unit_rows,
+)
 
 
 def carried(move, rows, rounds):
@@ -20,8 +28,7 @@ def carried(move, rows, rounds):
     if kind == "if":
         return carried_apart(move, rows, rounds)
     if kind == "while":
-        loop = rows_of_loop(move[1], move[2], rounds)
-        return [row_through(row, loop) for row in rows]
+        return joined_rows(rows, rows_of_loop(move[1], move[2], rounds))
     return [done(row, move[1], move[2]) for row in rows]
 
 
@@ -68,12 +75,7 @@ def rows_of_loop(truths, body, rounds):
     behind_body = carried(body, [unit_row(many, at) for at in begun], rounds)
     by_state = {at: row for at, row in zip(begun, behind_body)}
     rows = [by_state.get(at, unit_row(many, at)) for at in range(many)]
-    if rounds is None:
-        return looped_rows(truths, rows)
-    found = [unit_row(many, many + 1 if truths[at] else at) for at in range(many)]
-    for _ in range(rounds):
-        found = [row_through(rows[at], found) if truths[at] else found[at] for at in range(many)]
-    return found
+    return looped_rows(truths, rows) if rounds is None else rows_of_rounds(truths, rows, rounds)
 
 
 def program_rows(program):

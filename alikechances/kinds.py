@@ -8,6 +8,10 @@ MOST_VARIABLES = 4
 LEAST_SIZE = 2
 MOST_SIZE = 6
 MOST_STATES = 24
+MOST_COUNTED = 99
+MOST_NODES = 400
+MOST_OUTCOMES = 26
+MOST_BELOW = 200
 
 
 def is_integer(thing):
@@ -74,9 +78,9 @@ def is_tuple_of_integers(thing):
     return isinstance(thing, tuple) and all([is_integer(value) for value in thing])
 
 
-def is_world_alone(thing):
-    """Whether any object is a world by itself, of whatever program."""
-    return is_tuple_of_integers(thing) and all([place >= 0 for place in thing])
+def are_from_0(thing):
+    """Whether any object is a tuple of integers from 0 on, as ranks and worlds by themselves are."""
+    return is_tuple_of_integers(thing) and all([number >= 0 for number in thing])
 
 
 def fits_state(state, variables):
@@ -97,12 +101,34 @@ def are_shares(thing):
     """Whether any object is shares by itself, of whatever variables."""
     if not isinstance(thing, list) or not thing or not all([is_share_of_state(part) for part in thing]):
         return False
-    return all([thing[at][0] < thing[at + 1][0] for at in range(len(thing) - 1)])
+    return are_ascending(thing)
+
+
+def is_counted_state(thing):
+    """Whether any object is a tuple (state, integer from 1 on), of whatever variables."""
+    return is_tuple_of(thing, 2) and is_tuple_of_integers(thing[0]) and is_integer(thing[1]) and thing[1] >= 1
+
+
+def are_counted_states(thing):
+    """Whether any object is pairs by itself as a normal form has them, of whatever variables, and few enough."""
+    if not isinstance(thing, list) or not thing or not all([is_counted_state(pair) for pair in thing]):
+        return False
+    return are_ascending(thing) and sum([number for _, number in thing]) <= MOST_COUNTED
+
+
+def are_ascending(pairs):
+    """Whether a list of (state, ..) has its states ascending, none of them twice."""
+    return all([pairs[at][0] < pairs[at + 1][0] for at in range(len(pairs) - 1)])
 
 
 def are_values(thing):
     """Whether any object is values by itself, however many."""
     return isinstance(thing, tuple) and all([is_fraction(value) for value in thing])
+
+
+def are_values_from_0(thing):
+    """Whether any object is values by itself, none of them below 0."""
+    return are_values(thing) and all([above >= 0 for above, _ in thing])
 
 
 def is_row(thing, many):
@@ -131,3 +157,42 @@ def is_table_alone(thing):
     if not isinstance(thing, tuple) or len(thing) < 2:
         return False
     return all([is_row(row, len(thing)) for row in thing])
+
+
+def wrong_ticket(thing):
+    """The index of the first entry of a list that is no integer from 0 on, None without one; -1 for no list."""
+    if not isinstance(thing, list):
+        return -1
+    for at, ticket in enumerate(thing):
+        if not is_integer(ticket) or ticket < 0:
+            return at
+    return None
+
+
+def is_target(thing, many):
+    """Whether any object is what a toss of a coin machine with so many nodes leads to."""
+    if is_integer(thing):
+        return 0 <= thing < many
+    return is_tuple_of(thing, 2) and thing[0] == "out" and is_between(thing[1], 0, MOST_OUTCOMES - 1)
+
+
+def is_coin_machine(thing):
+    """Whether any object is a coin machine."""
+    if not isinstance(thing, tuple) or not 1 <= len(thing) <= MOST_NODES:
+        return False
+    many = len(thing)
+    return all([
+        is_tuple_of(node, 2) and is_target(node[0], many) and is_target(node[1], many) for node in thing
+    ])
+
+
+def is_part(thing):
+    """Whether any object is a fraction above 0 with a number below that is not too great in lowest terms."""
+    return is_fraction(thing) and thing[0] > 0 and thing[1] // gcd(thing[0], thing[1]) <= MOST_BELOW
+
+
+def are_parts(thing):
+    """Whether any object is parts."""
+    if not isinstance(thing, tuple) or not 1 <= len(thing) <= MOST_OUTCOMES:
+        return False
+    return all([is_part(part) for part in thing]) and are_together_one(thing)

@@ -1,15 +1,7 @@
 """Programs, and what can be told of their parts without doing them."""
 
-from alikechances.checks import (
-    need_condition,
-    need_expression,
-    need_fitting_state,
-    need_known_condition,
-    need_known_expression,
-    need_program,
-    need_state,
-    need_vars,
-)
+from alikechances.checks import need_condition, need_expression, need_program, need_state, need_vars
+from alikechances.fits import need_fitting_state, need_known_condition, need_known_expression
 from alikechances.reckoning import all_states, named_values, number_of, truth_of
 from alikechances.trees import changed_names, is_whole_program, statement_names, statements_in
 

@@ -58,6 +58,35 @@ def row_through(row, rows):
     return simplest(found)
 
 
+def joined_rows(rows, others):
+    """The rows of doing what the first ones tell and then what the others tell."""
+    return [row_through(row, others) for row in rows]
+
+
+def rows_often(rows, count):
+    """The rows of doing what rows tell so many times, by squares."""
+    found = unit_rows(len(rows))
+    while count:
+        if count % 2:
+            found = joined_rows(found, rows)
+        count //= 2
+        rows = joined_rows(rows, rows) if count else rows
+    return found
+
+
+def chosen_rows(truths, rows, others):
+    """The rows of an if: the first ones where its condition holds, the others elsewhere."""
+    return [row if truth else other for truth, row, other in zip(truths, rows, others)]
+
+
+def rows_of_rounds(truths, rows, rounds):
+    """The rows of a while that goes round at most so many times, what would go on counted as endless."""
+    many = len(rows)
+    once = chosen_rows(truths, rows, unit_rows(many))
+    asked = [unit_row(many, many + 1 if truth else at) for at, truth in enumerate(truths)]
+    return joined_rows(rows_often(once, rounds), asked)
+
+
 def looped_rows(truths, rows):
     """The rows of a while, of the truths of its condition and the rows of its body.
 
@@ -65,7 +94,7 @@ def looped_rows(truths, rows):
     leads back to itself alone goes on for ever, all else is shared out.
     """
     many = len(rows)
-    found = [rows[at] if truths[at] else unit_row(many, at) for at in range(many)]
+    found = chosen_rows(truths, rows, unit_rows(many))
     for at in range(many):
         if truths[at]:
             row = without_return(found[at], at)

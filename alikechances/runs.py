@@ -57,7 +57,10 @@ def world_count(move, many, place):
 
 
 class Walk:
-    """One run by a given world: where it is, how much of the world is used, and where it was."""
+    """One run by a given world: where it is, how much of the world is used, and where it was.
+
+    `tickets` has for each draw the least ticket by which it comes out so.
+    """
 
     def __init__(self, world, place, refused):
         self.world = world
@@ -65,6 +68,7 @@ class Walk:
         self.place = place
         self.refused = refused
         self.places = [place]
+        self.tickets = []
 
     def go(self, move):
         """Does a move, nothing where it is refused already; BadWorld where the world does not tell how."""
@@ -81,7 +85,10 @@ class Walk:
 
     def act(self, kind, ways):
         """Does an act, in the way that the world tells for a draw."""
-        number = self.drawn(len(ways)) if kind == "draw" else 0
+        number = 0
+        if kind == "draw":
+            number = self.drawn(len(ways))
+            self.tickets.append(sum([weight for _, weight in ways[:number]]))
         self.place = ways[number][0]
         if kind in ("set", "draw"):
             self.places.append(self.place)

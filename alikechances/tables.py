@@ -1,19 +1,18 @@
 """Tables: for each state ahead the weights of all that a program can come to."""
 
 from alikechances.checks import (
-    need_condition,
-    need_fitting_table,
-    need_known_condition,
+    need_loop_table,
     need_no_choices,
     need_program,
     need_share,
-    need_table,
+    need_two_tables,
     need_vars,
 )
+from alikechances.fits import need_fitting_loop_table, need_fitting_tables
 from alikechances.flows import program_rows
 from alikechances.kinds import is_table_alone, state_count
 from alikechances.moves import Space
-from alikechances.rows import looped_rows, row_through, rows_of, sum_of_rows, table_of
+from alikechances.rows import joined_rows, looped_rows, rows_of, sum_of_rows, table_of
 
 
 def table(program):
@@ -29,28 +28,18 @@ def is_table(variables, thing):
     return is_table_alone(thing) and len(thing) == state_count(variables)
 
 
-def need_two_tables(variables, table, other):
-    """BadVars, BadTable for what is none by itself."""
-    need_vars(variables)
-    need_table(table)
-    need_table(other)
-
-
 def joined(variables, table, other):
     """The table of doing what the first one tells and then what the second one tells."""
     need_two_tables(variables, table, other)
-    need_fitting_table(table, variables)
-    need_fitting_table(other, variables)
-    second = rows_of(other)
-    return table_of([row_through(row, second) for row in rows_of(table)])
+    need_fitting_tables(table, other, variables)
+    return table_of(joined_rows(rows_of(table), rows_of(other)))
 
 
 def mixed(variables, table, other, share):
     """The table of doing what the first one tells with a share, else what the second one tells."""
     need_two_tables(variables, table, other)
     need_share(share)
-    need_fitting_table(table, variables)
-    need_fitting_table(other, variables)
+    need_fitting_tables(table, other, variables)
     above, below = share
     return table_of([
         sum_of_rows(first, above, second, below - above)
@@ -60,9 +49,6 @@ def mixed(variables, table, other, share):
 
 def looped(condition, variables, table):
     """The table of the while with a condition, of that of its body."""
-    need_condition(condition)
-    need_vars(variables)
-    need_table(table)
-    need_known_condition(condition, variables)
-    need_fitting_table(table, variables)
+    need_loop_table(condition, variables, table)
+    need_fitting_loop_table(condition, variables, table)
     return table_of(looped_rows(Space(variables).truths(condition), rows_of(table)))

@@ -1,14 +1,8 @@
 """Values of states carried back through a program to the states ahead."""
 
-from alikechances.checks import (
-    need_fitting_shares,
-    need_fitting_values,
-    need_no_choices,
-    need_program,
-    need_shares,
-    need_values,
-)
+from alikechances.checks import need_no_choices, need_program, need_shares, need_values
 from alikechances.exact import lowest, over, times, total
+from alikechances.fits import need_fitting_shares, need_fitting_values
 from alikechances.flows import program_rows, row_behind
 
 

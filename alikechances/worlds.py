@@ -3,7 +3,6 @@
 from alikechances.building import put_together, whole
 from alikechances.checks import (
     need_count,
-    need_fitting_state,
     need_no_choices,
     need_no_loops,
     need_number,
@@ -13,8 +12,10 @@ from alikechances.checks import (
 )
 from alikechances.errors import BadNumber, BadProgram, TooMany
 from alikechances.exact import NOTHING, lowest, plus
+from alikechances.fits import need_fitting_state
 from alikechances.flows import row_from
 from alikechances.moves import Space
+from alikechances.reckoning import all_states
 from alikechances.runs import Walk, runs_behind, world_count
 from alikechances.trees import DEEPEST_STATEMENT, MOST_STATEMENTS, count_of
 
@@ -75,17 +76,24 @@ def world_of(program, state, number):
     return world_list(space, move, start)[number][0]
 
 
+def walked(program, state, world):
+    """The walk of a program by a world; BadWorld if it is none of the program's."""
+    space, move, start = begun(program, state)
+    walk = Walk(world, start, len(space.states))
+    walk.go(move)
+    walk.finish()
+    return walk
+
+
 def run_world(program, state, thing):
     """The list of the state ahead and of those behind each set and draw that is done in a world."""
     need_program(program)
     need_state(state)
     need_world(thing)
     need_straight(program)
-    space, move, start = begun(program, state)
-    walk = Walk(thing, start, len(space.states))
-    walk.go(move)
-    walk.finish()
-    return [space.states[place] for place in walk.places]
+    walk = walked(program, state, thing)
+    states = all_states(program[0])
+    return [states[place] for place in walk.places]
 
 
 def line_of_worlds(space, listed):

@@ -31,6 +31,22 @@ INTERFACE = {
     "values": {
         "behind": "program values", "let_by": "program", "never": "program", "wanted": "program values shares",
     },
+    "loops": {
+        "above_paper": "condition program values", "above_holds": "condition program values thing",
+        "below_paper": "condition program values", "below_holds": "condition program values thing",
+        "ends_surely": "condition program", "rank_paper": "condition program",
+    },
+    "same": {
+        "alike": "program other", "multiple": "program other", "alike_within": "program other",
+        "same_table": "program other", "parting": "program other", "branch_parting": "program other",
+        "alike_for": "program other names", "parting_for": "program other names", "row_classes": "program",
+        "never_matters": "program",
+    },
+    "orders": {
+        "sure": "program condition", "possible": "program condition", "less_sure": "program other",
+        "apart": "program other",
+    },
+    "normals": {"normal": "program", "draw_program": "variables pairs"},
 }
 
 

@@ -47,6 +47,24 @@ INTERFACE = {
         "apart": "program other",
     },
     "normals": {"normal": "program", "draw_program": "variables pairs"},
+    "joins": {
+        "plain_table": "variables", "set_table": "variables name expression", "draw_table": "variables name pairs",
+        "see_table": "variables condition", "branched": "condition variables table other",
+        "often": "variables table count", "joined_table": "program", "looped_for": "condition variables table count",
+        "rounds": "condition variables table", "table_unlike": "variables table other",
+    },
+    "looppapers": {
+        "loop_paper": "condition variables table", "loop_paper_holds": "condition variables table thing",
+    },
+    "tickets": {
+        "run_by": "program state tickets", "tickets_of": "program state world", "tickets_least": "program state",
+        "by_ticket": "program state number",
+    },
+    "coins": {
+        "coin_shares": "machine count", "coin_cost": "machine", "toss": "machine tosses", "coins_least": "parts",
+        "coin_machine": "parts", "coin_holds": "parts thing", "coin_best": "parts thing",
+        "row_machine": "program state",
+    },
 }
 
 

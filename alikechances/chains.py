@@ -105,6 +105,16 @@ def way_out(chain, start):
     return ways[start]
 
 
+def ways_of_all(ways):
+    """The ways of all nodes to the ends alone, of the ways of one step of theirs; each node leads to an end."""
+    found = {node: without_return(way, node) for node, way in ways.items()}
+    for left in ways:
+        for node in ways:
+            if node != left and left in found[node][0]:
+                found[node] = simplest_way(without_return(put_in(found[node], left, found[left]), node))
+    return found
+
+
 def expected_steps(chain, start):
     """How many steps are done from a node in the mean, None if it goes on for ever with a weight above 0."""
     weights, steps = way_out(chain, start)

@@ -5,8 +5,13 @@ from alikechances.errors import (
     BadCondition,
     BadCount,
     BadExpression,
+    BadFraction,
+    BadGame,
+    BadLeaning,
     BadName,
     BadNames,
+    BadNews,
+    BadNoise,
     BadNumber,
     BadPairs,
     BadParts,
@@ -26,14 +31,20 @@ from alikechances.kinds import (
     are_counted_states,
     are_from_0,
     are_names,
+    are_news,
     are_parts,
     are_shares,
+    are_states_ahead,
     are_values,
     are_values_from_0,
     are_variables,
     is_between,
     is_coin_machine,
+    is_fraction,
+    is_game_alone,
     is_integer,
+    is_leaning,
+    is_news,
     is_share,
     is_table_alone,
     is_tuple_of_integers,
@@ -86,6 +97,12 @@ def need_state(thing):
         raise BadState("this is no state")
 
 
+def need_states(thing):
+    """BadState for any object that is no tuple of one to six states by itself, ascending."""
+    if not are_states_ahead(thing):
+        raise BadState("these are no states, ascending")
+
+
 def need_world(thing):
     """BadWorld for any object that is no world by itself."""
     if not are_from_0(thing):
@@ -114,6 +131,12 @@ def need_count(thing, most, least=0):
     """BadCount for any object that is no integer from least to most."""
     if not is_between(thing, least, most):
         raise BadCount(f"this is no number from {least} to {most}")
+
+
+def need_fraction(thing):
+    """BadFraction for any object that is no fraction."""
+    if not is_fraction(thing):
+        raise BadFraction("this is no fraction")
 
 
 def need_share(thing):
@@ -189,6 +212,42 @@ def need_parts(thing, least):
     """BadParts for any object that is no parts, so many or more."""
     if not are_parts(thing) or len(thing) < least:
         raise BadParts("these are no parts")
+
+
+def need_game(thing):
+    """BadGame for any object that is no game by itself."""
+    if not is_game_alone(thing):
+        raise BadGame("this is no game")
+
+
+def need_leaning(thing):
+    """BadLeaning for any object that is no leaning by itself."""
+    if not is_leaning(thing):
+        raise BadLeaning("this is no leaning")
+
+
+def need_news(thing):
+    """BadNews for any object that is no news table."""
+    if not is_news(thing):
+        raise BadNews("this is no news table")
+
+
+def need_two_news(news, other):
+    """BadNews for either that is none."""
+    need_news(news)
+    need_news(other)
+
+
+def need_news_list(thing):
+    """BadNews for any object that is no list of news tables."""
+    if not are_news(thing):
+        raise BadNews("these are no news tables")
+
+
+def need_noise(thing):
+    """BadNoise for any object that is no noise by itself."""
+    if not is_news(thing):
+        raise BadNoise("this is no noise")
 
 
 def need_no_loops(program):

@@ -37,3 +37,12 @@ def total(fractions):
     for fraction in fractions:
         found = plus(found, fraction)
     return found
+
+
+def greatest_of(fractions):
+    """The greatest of a list of fractions, one or more."""
+    found = fractions[0]
+    for fraction in fractions:
+        if not is_at_most(fraction, found):
+            found = fraction
+    return found

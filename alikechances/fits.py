@@ -4,8 +4,11 @@ from alikechances.checks import need_no_choices
 from alikechances.errors import (
     BadCondition,
     BadExpression,
+    BadGame,
+    BadLeaning,
     BadName,
     BadNames,
+    BadNoise,
     BadPairs,
     BadShares,
     BadState,
@@ -66,6 +69,12 @@ def need_fitting_state(state, variables):
         raise BadState("this is no state of the variables")
 
 
+def need_fitting_states(states, variables):
+    """BadState for states of which one is no state of the variables."""
+    for state in states:
+        need_fitting_state(state, variables)
+
+
 def need_fitting_shares(shares, variables):
     """BadShares for shares with what is no state of the variables."""
     if not all([fits_state(state, variables) for state, _ in shares]):
@@ -100,3 +109,27 @@ def need_fitting_loop_table(condition, variables, table):
     """BadCondition for names that do not stand there, then BadTable for a table of another size."""
     need_known_condition(condition, variables)
     need_fitting_table(table, variables)
+
+
+def need_fitting_game(game, many):
+    """BadGame for a game with more or fewer fractions in its actions than there are things that can be so."""
+    if len(game[0]) != many:
+        raise BadGame("the actions of the game have another length")
+
+
+def need_fitting_leaning(leaning, news):
+    """BadLeaning for a leaning with more or fewer fractions than the news table has rows."""
+    if len(leaning) != len(news):
+        raise BadLeaning("the leaning is not as long as the news table")
+
+
+def need_fitting_noise(noise, news):
+    """BadNoise for a noise with more or fewer rows than the news table has columns."""
+    if len(noise) != len(news[0]):
+        raise BadNoise("the noise has not as many rows as the news table has columns")
+
+
+def need_alike_news(news, other):
+    """NotAlike for two news tables with different numbers of rows."""
+    if len(news) != len(other):
+        raise NotAlike("the news tables have different numbers of rows")

@@ -1,7 +1,8 @@
 """Rows carried through programs without choices.
 
 Loops are worked out exactly, or, where rounds are told, go round at most so
-many times each time they are come to, what would go on counted as endless.
+many times each time they are come to, what would go on counted as endless. A
+loop that was worked out already is ("loop", truths, move, rows, counts), rows its own.
 """
 
 from math import lcm
@@ -29,6 +30,8 @@ def carried(move, rows, rounds):
         return carried_apart(move, rows, rounds)
     if kind == "while":
         return joined_rows(rows, rows_of_loop(move[1], move[2], rounds))
+    if kind == "loop":
+        return joined_rows(rows, move[3])
     return [done(row, move[1], move[2]) for row in rows]
 
 
@@ -68,14 +71,25 @@ def carried_if_any(move, rows, rounds):
     return carried(move, rows, rounds)
 
 
-def rows_of_loop(truths, body, rounds):
-    """The rows of a while."""
+def rows_of_body(truths, body, rounds):
+    """For each state the row of one round of a while: of its body, or, where it is left, of staying there."""
     many = len(truths)
     begun = [at for at in range(many) if truths[at]]
     behind_body = carried(body, [unit_row(many, at) for at in begun], rounds)
     by_state = {at: row for at, row in zip(begun, behind_body)}
-    rows = [by_state.get(at, unit_row(many, at)) for at in range(many)]
+    return [by_state.get(at, unit_row(many, at)) for at in range(many)]
+
+
+def rows_of_loop(truths, body, rounds):
+    """The rows of a while."""
+    rows = rows_of_body(truths, body, rounds)
     return looped_rows(truths, rows) if rounds is None else rows_of_rounds(truths, rows, rounds)
+
+
+def act_rows(space, act):
+    """The rows of a statement in which no other one stands."""
+    _, ways, whole = space.move(act)
+    return [done(row, ways, whole) for row in unit_rows(len(space.states))]
 
 
 def program_rows(program):
@@ -91,13 +105,18 @@ def row_from(program, state, rounds):
     return carried(space.move(program[1]), [row], rounds)[0]
 
 
-def row_behind(program, shares):
-    """The row that shares of states ahead come to by a program without choices."""
-    space = Space(program[0])
+def row_of_shares(space, shares):
+    """The row that shares of states are."""
     whole = 1
     for _, (_, below) in shares:
         whole = lcm(whole, below)
     row = [0] * (len(space.states) + 2)
     for state, (above, below) in shares:
         row[space.numbers[state]] = above * (whole // below)
-    return carried(space.move(program[1]), [simplest(row)], None)[0]
+    return simplest(row)
+
+
+def row_behind(program, shares):
+    """The row that shares of states ahead come to by a program without choices."""
+    space = Space(program[0])
+    return carried(space.move(program[1]), [row_of_shares(space, shares)], None)[0]

@@ -24,7 +24,7 @@ from alikechances.fits import (
     need_known_name,
     need_known_pairs,
 )
-from alikechances.flows import done
+from alikechances.flows import act_rows
 from alikechances.moves import Space
 from alikechances.rows import (
     chosen_rows,
@@ -38,12 +38,6 @@ from alikechances.rows import (
 )
 
 MOST_TIMES = 1000
-
-
-def act_rows(space, act):
-    """The rows of a statement in which no other one stands."""
-    _, ways, whole = space.move(act)
-    return [done(row, ways, whole) for row in unit_rows(len(space.states))]
 
 
 def act_table(variables, act):

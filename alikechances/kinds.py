@@ -12,6 +12,10 @@ MOST_COUNTED = 99
 MOST_NODES = 400
 MOST_OUTCOMES = 26
 MOST_BELOW = 200
+MOST_ROWS = 6
+MOST_COLUMNS = 6
+MOST_ACTIONS = 6
+MOST_NEWS = 6
 
 
 def is_integer(thing):
@@ -196,3 +200,45 @@ def are_parts(thing):
     if not isinstance(thing, tuple) or not 1 <= len(thing) <= MOST_OUTCOMES:
         return False
     return all([is_part(part) for part in thing]) and are_together_one(thing)
+
+
+def are_states_ahead(thing):
+    """Whether any object is a tuple of one to six states by itself, ascending, of whatever variables."""
+    if not isinstance(thing, tuple) or not 1 <= len(thing) <= MOST_ROWS:
+        return False
+    if not all([is_tuple_of_integers(state) for state in thing]):
+        return False
+    return all([thing[at] < thing[at + 1] for at in range(len(thing) - 1)])
+
+
+def is_leaning(thing):
+    """Whether any object is a leaning by itself, of however many: fractions from 0 on, together 1."""
+    return are_values_from_0(thing) and are_together_one(thing)
+
+
+def is_news(thing):
+    """Whether any object is a news table."""
+    if not isinstance(thing, tuple) or not 1 <= len(thing) <= MOST_ROWS:
+        return False
+    if not all([is_leaning(row) and len(row) <= MOST_COLUMNS for row in thing]):
+        return False
+    return are_as_long(thing)
+
+
+def are_as_long(things):
+    """Whether all of one thing or more are as long."""
+    return all([len(thing) == len(things[0]) for thing in things])
+
+
+def are_news(thing):
+    """Whether any object is a list of one to six news tables."""
+    if not isinstance(thing, list) or not 1 <= len(thing) <= MOST_NEWS:
+        return False
+    return all([is_news(news) for news in thing])
+
+
+def is_game_alone(thing):
+    """Whether any object is a game by itself, for however many things that can be so."""
+    if not isinstance(thing, tuple) or not 1 <= len(thing) <= MOST_ACTIONS:
+        return False
+    return all([are_values(action) and len(action) > 0 for action in thing]) and are_as_long(thing)

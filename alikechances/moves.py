@@ -4,13 +4,14 @@ States go by their numbers, ascending. A move is (kind, ways, whole) for an act,
 ways telling for each state a tuple of (number of the state behind, weight), the
 weights adding up to whole, and the number of the states standing for being
 refused; or ("seq", moves), ("if", truths, move, move), ("while", truths, move).
+The ways of a choose have the weight 1 each: one of them is taken, none is drawn.
 """
 
 from alikechances.reckoning import all_states, named_values, number_of, truth_of
 
 
 class Space:
-    """The states of variables, and what statements without choices do with them."""
+    """The states of variables, and what statements do with them."""
 
     def __init__(self, variables):
         self.sized = {name: (place, size) for place, (name, size) in enumerate(variables)}
@@ -22,15 +23,22 @@ class Space:
         """For each state whether a condition holds."""
         return [truth_of(condition, values) for values in self.named]
 
+    def worths(self, expression):
+        """For each state the number that an expression comes to."""
+        return [number_of(expression, values) for values in self.named]
+
+    def values_by_size(self, name, expression):
+        """For each state the value that a variable takes by an expression."""
+        _, size = self.sized[name]
+        return [number % size for number in self.worths(expression)]
+
     def targets(self, name, expression):
         """For each state the number of the one behind, once a variable is set."""
-        place, size = self.sized[name]
-        found = []
-        for state, values in zip(self.states, self.named):
-            value = number_of(expression, values) % size
-            behind = (*state[:place], value, *state[place + 1:])
-            found.append(self.numbers[behind])
-        return found
+        place, _ = self.sized[name]
+        return [
+            self.numbers[(*state[:place], value, *state[place + 1:])]
+            for state, value in zip(self.states, self.values_by_size(name, expression))
+        ]
 
     def draw_ways(self, name, pairs):
         """For each state the ways of a draw, in the order of its pairs."""
@@ -43,7 +51,7 @@ class Space:
         return [((at if truth else refused, 1),) for at, truth in enumerate(self.truths(condition))]
 
     def move(self, statement):
-        """The move of a statement without choices."""
+        """The move of a statement."""
         kind = statement[0]
         if kind == "seq":
             return ("seq", [self.move(part) for part in statement[1]])
@@ -58,4 +66,6 @@ class Space:
         if kind == "draw":
             whole = sum([weight for _, weight in statement[2]])
             return ("draw", self.draw_ways(statement[1], statement[2]), whole)
+        if kind == "choose":
+            return ("choose", self.draw_ways(statement[1], [(value, 1) for value in statement[2]]), 1)
         return ("skip", [((at, 1),) for at in range(len(self.states))], 1)

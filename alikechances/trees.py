@@ -97,9 +97,14 @@ def count_of(thing, deep, most):
     return 1 if is_act(thing) else None
 
 
+def is_holder(form):
+    """Whether an if or a while has as many parts as it needs and a condition, whatever the statements in it."""
+    return len(form) == (4 if form[0] == "if" else 3) and is_condition(form[1], DEEPEST_EXPRESSION)
+
+
 def count_of_holder(form, deep, most):
     """As count_of, of an if or a while."""
-    if len(form) != (4 if form[0] == "if" else 3) or not is_condition(form[1], DEEPEST_EXPRESSION):
+    if not is_holder(form):
         return None
     held = count_of_all(form[2:], deep - 1, most - 1)
     return None if held is None else held + 1
@@ -123,6 +128,17 @@ def count_of_all(things, deep, most):
             return None
         total += more
     return total
+
+
+def is_loose(thing):
+    """Whether any object is a statement as papers hold it: seqs of any length within seqs, however many statements."""
+    if not is_form(thing):
+        return False
+    if thing[0] == "seq":
+        return len(thing) == 2 and isinstance(thing[1], tuple) and all([is_loose(part) for part in thing[1]])
+    if thing[0] in ("if", "while"):
+        return is_holder(thing) and all([is_loose(part) for part in thing[2:]])
+    return is_act(thing)
 
 
 def is_whole_program(thing):

@@ -100,6 +100,10 @@ class LanguageTest(unittest.TestCase):
                     self.assertIsInstance(node.targets[0], ast.Name)
                     names.append(node.targets[0].id)
                     for part in ast.walk(node.value):
+                        if isinstance(part, ast.Name) and isinstance(node.value, ast.Dict):
+                            self.assertIn(part.id, [above.name for above in tree(path).body[:at]
+                                                    if isinstance(above, ast.FunctionDef)])
+                            continue
                         self.assertIsInstance(part, (ast.Constant, ast.Tuple, ast.List, ast.Dict, ast.Load))
                 elif isinstance(node, ast.ImportFrom):
                     names.extend(alias.name for alias in node.names)
@@ -141,7 +145,7 @@ class LanguageTest(unittest.TestCase):
                     self.assertIn(node.func.attr, methods, node.lineno)
                 if isinstance(node, ast.Call) and isinstance(node.func, ast.Name):
                     if hasattr(builtins, node.func.id):
-                        self.assertEqual([k.arg for k in node.keywords if k.arg not in ("key", "start")], [])
+                        self.assertEqual([k.arg for k in node.keywords if k.arg not in ("key", "start", "reverse")], [])
 
     def test_names(self):
         for path in self.each():
@@ -160,6 +164,19 @@ class LanguageTest(unittest.TestCase):
                 for child in ast.iter_child_nodes(node):
                     if isinstance(child, ast.Call) and getattr(child.func, "id", None) == "set":
                         self.assertIn(getattr(getattr(node, "func", None), "id", None), ("sorted", "len"))
+
+    def test_double_underscore_methods(self):
+        for path in self.each():
+            for kind in (node for node in ast.walk(tree(path)) if isinstance(node, ast.ClassDef)):
+                methods = {node.name: node for node in kind.body if isinstance(node, ast.FunctionDef)}
+                told = {name for name in methods if name.startswith("__")}
+                self.assertLessEqual(told, {"__init__", "__eq__", "__len__", "__getitem__", "__iter__"})
+                if "__getitem__" in told:
+                    self.assertIsInstance(methods["__iter__"].body[0], ast.Raise)
+                for name in told - {"__init__", "__iter__"}:
+                    changes = [node for node in ast.walk(methods[name])
+                               if isinstance(node, (ast.Assign, ast.AugAssign, ast.Delete, ast.NamedExpr))]
+                    self.assertEqual(changes, [], name)
 
     def test_strings_and_words(self):
         for path in self.each():

@@ -1,7 +1,7 @@
 """Shares of states carried ahead through a program."""
 
 from alikechances.checks import need_condition, need_no_choices, need_program, need_shares
-from alikechances.exact import lowest, total
+from alikechances.exact import NOTHING, lowest, total
 from alikechances.fits import need_fitting_shares, need_known_condition
 from alikechances.flows import row_behind
 from alikechances.moves import Space
@@ -18,6 +18,13 @@ def ahead(program, shares):
     need_program(program)
     need_shares(shares)
     need_shares_of(program, shares)
+    return weights_behind(program, shares)
+
+
+def weights_behind(program, shares):
+    """As ahead, of what are shares of states of the program's variables, perhaps none."""
+    if not shares:
+        return ([], NOTHING, NOTHING)
     states = Space(program[0]).states
     row = row_behind(program, shares)
     whole = total([share for _, share in shares])

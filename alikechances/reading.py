@@ -8,6 +8,7 @@ from alikechances.errors import BadText
 from alikechances.trees import EXPRESSIONS
 from alikechances.words import words_of
 
+LONGEST_TEXT = 4000
 # By a goal and the kind of the next word: the goals that come in its place.
 RULES = {
     ("variables", ","): (",", "variable", "variables"),
@@ -51,7 +52,11 @@ RULES = {
 }
 # By a goal alone, where no rule tells it by the next word.
 ALWAYS = {
-    "program": ("vars", "list", "variable", "variables", "tuple", ";", "body", "couple", "end"),
+    "program": ("vars", "sized names", ";", "body", "couple", "end"),
+    "variables alone": ("sized names", "end"),
+    "statement alone": ("body", "end"),
+    "condition alone": ("condition", "end"),
+    "sized names": ("list", "variable", "variables", "tuple"),
     "body": ("list", "statement", "statements", "statement of list"),
     "held": ("(", "body", ")"),
     "variable": ("name", "number", "couple", "add"),
@@ -126,10 +131,23 @@ def take_word(goal, word, values):
         values.append(value)
 
 
-def read_tree(text):
-    """The tuple (variables, statement) that a text writes, perhaps no program by its bounds."""
+def is_readable(thing):
+    """Whether any object is a str of the signs that texts are made of, and not too long."""
+    if not isinstance(thing, str) or len(thing) > LONGEST_TEXT:
+        return False
+    return all([sign == "\n" or " " <= sign <= "~" for sign in thing])
+
+
+def read_tree(text, goal):
+    """The tree that a text writes by a goal, perhaps none by its bounds; BadText for any object that writes none.
+
+    A goal "program" for a tuple (variables, statement), or one of "variables", "statement", "condition" with
+    " alone" behind it.
+    """
+    if not is_readable(text):
+        raise BadText(-1)
     words = words_of(text)
-    goals = ["program"]
+    goals = [goal]
     values = []
     at = 0
     while goals:

@@ -1,27 +1,16 @@
 """Programs read from texts and written as texts."""
 
 from alikechances.checks import need_program
-from alikechances.errors import BadText
 from alikechances.reading import read_tree
 
-LONGEST_TEXT = 4000
 SIGNS_BETWEEN = {
     "add": "+", "less by": "-", "times": "*", "is": "is", "below": "below", "and": "and", "or": "or",
 }
 
 
-def is_readable(thing):
-    """Whether any object is a str of the signs that texts are made of, and not too long."""
-    if not isinstance(thing, str) or len(thing) > LONGEST_TEXT:
-        return False
-    return all([sign == "\n" or " " <= sign <= "~" for sign in thing])
-
-
 def read_program(text):
     """The program that a text writes."""
-    if not is_readable(text):
-        raise BadText(-1)
-    program = read_tree(text)
+    program = read_tree(text, "program")
     need_program(program)
     return program
 

@@ -65,6 +65,39 @@ INTERFACE = {
         "coin_machine": "parts", "coin_holds": "parts thing", "coin_best": "parts thing",
         "row_machine": "program state",
     },
+    "papers": {"step_right": "variables thing", "paper_holds": "program other thing"},
+    "passes": {
+        "tidied": "program", "folded": "program", "undrawn": "program", "cleared": "program", "decided": "program",
+        "bettered": "program", "seen_early": "program",
+    },
+    "costs": {"cost": "program state", "costs": "program", "loop_gain": "condition program"},
+    "choices": {
+        "way_table": "program way", "ways_many": "program", "way_number": "program way", "nth_way": "program number",
+        "greatest": "program shares condition", "least": "program shares condition",
+        "greatest_way": "program shares condition", "least_way": "program shares condition",
+        "way_holds": "program shares condition fraction thing", "bound_paper": "program shares condition",
+        "bound_holds": "program shares condition fraction thing", "can": "program condition",
+        "must": "program condition", "some_way_surely": "program condition", "worst_cost": "program state",
+        "best_cost": "program state",
+    },
+    "learned": {
+        "told_by": "program shares names", "guess": "program shares names asked",
+        "guesses": "program shares names asked", "worth": "program shares names game",
+    },
+    "news": {
+        "news_of": "program states names", "noisy": "news noise", "news_worth": "news leaning game",
+        "tells_more": "news other", "noise_for": "news other", "game_against": "news other",
+        "noise_holds": "news other thing", "game_holds": "news other thing", "same_news": "news other",
+        "least_news": "news", "best_news": "tables",
+    },
+}
+CLASSES = {
+    ("session", "Session"): {
+        "__init__": "variables shares", "do": "program", "see": "condition", "undo": "", "chance": "condition",
+        "chance_never": "", "shares": "", "deeds": "", "weight": "", "program": "", "__len__": "", "__getitem__": "at",
+        "__eq__": "other", "copy": "", "best_look": "names",
+    },
+    ("desk", "Desk"): {"__init__": "", "say": "row", "session": ""},
 }
 
 
@@ -81,6 +114,19 @@ class InterfaceTest(unittest.TestCase):
                     for parameter in told:
                         self.assertEqual(parameter.kind, parameter.POSITIONAL_OR_KEYWORD)
                         self.assertIs(parameter.default, parameter.empty)
+
+    def test_classes_stand_in_their_files_with_their_methods(self):
+        for (file, name), methods in CLASSES.items():
+            found = getattr(importlib.import_module(f"alikechances.{file}"), name)
+            self.assertEqual((found.__module__, found.__bases__), (f"alikechances.{file}", (object,)))
+            for method, parameters in methods.items():
+                with self.subTest(f"{name}.{method}"):
+                    self.assertIn(method, vars(found))
+                    told = list(inspect.signature(vars(found)[method]).parameters.values())[1:]
+                    self.assertEqual([parameter.name for parameter in told], parameters.split())
+                    for parameter in told:
+                        self.assertEqual(parameter.kind, parameter.POSITIONAL_OR_KEYWORD)
+                        self.assertIs(parameter.default, None if parameter.name == "shares" else parameter.empty)
 
 
 if __name__ == "__main__":

@@ -18,12 +18,12 @@ from alikechances.programs import is_program
 from alikechances.tables import is_table, mixed
 from alikechances.values import behind
 from alikechances.worlds import run_world, unrolled, world_of, worlds
-from tests import calls, calls_joins, calls_same
+from tests import calls, calls_choices, calls_joins, calls_news, calls_same
 from tests.calls import COINS, STAY
 from tests.helpers import ONE, SKIP, X, frozen
 from tests.test_interface import INTERFACE
 
-ORDERS = calls.ORDERS + calls_same.ORDERS + calls_joins.ORDERS
+ORDERS = calls.ORDERS + calls_same.ORDERS + calls_joins.ORDERS + calls_choices.ORDERS + calls_news.ORDERS
 
 
 def lists_in(thing):

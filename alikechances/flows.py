@@ -2,7 +2,8 @@
 
 Loops are worked out exactly, or, where rounds are told, go round at most so
 many times each time they are come to, what would go on counted as endless. A
-loop that was worked out already is ("loop", truths, move, rows, counts), rows its own.
+loop that was worked out already is a move ("loop", truths, move, rows, prices),
+with the rows of the whole loop; the prices are of no matter here.
 """
 
 from math import lcm

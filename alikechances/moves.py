@@ -35,10 +35,11 @@ class Space:
     def targets(self, name, expression):
         """For each state the number of the one behind, once a variable is set."""
         place, _ = self.sized[name]
-        return [
-            self.numbers[(*state[:place], value, *state[place + 1:])]
+        behind = [
+            (*state[:place], value, *state[place + 1:])
             for state, value in zip(self.states, self.values_by_size(name, expression))
         ]
+        return [self.numbers[state] for state in behind]
 
     def draw_ways(self, name, pairs):
         """For each state the ways of a draw, in the order of its pairs."""

@@ -60,6 +60,19 @@ def own_methods():
             for node in cls.body if isinstance(node, ast.FunctionDef)}
 
 
+def is_starred(node):
+    """Whether a star, or two, stand in a node itself: in a literal or a call."""
+    if isinstance(node, ast.Dict):
+        return None in node.keys
+    return isinstance(node, ast.Starred) or (isinstance(node, ast.keyword) and node.arg is None)
+
+
+def rows_with_starred_index(text):
+    """The rows of a text in which a star stands within the brackets of an index, at any depth."""
+    indexes = [node.slice for node in ast.walk(ast.parse(text)) if isinstance(node, ast.Subscript)]
+    return sorted({part.lineno for index in indexes for part in ast.walk(index) if is_starred(part)})
+
+
 class LanguageTest(unittest.TestCase):
     def each(self):
         for path in FILES:
@@ -157,6 +170,31 @@ class LanguageTest(unittest.TestCase):
                     self.assertNotIn(name, top, function.name)
                     self.assertFalse(hasattr(builtins, name) or name in NEVER, (function.name, name))
                     self.assertNotEqual(name, "vars")
+
+    def test_no_star_within_an_index(self):
+        found = [(path.name, row) for path in FILES for row in rows_with_starred_index(path.read_text())]
+        self.assertEqual(found, [])
+
+    def test_stars_within_an_index_are_found(self):
+        for row in (
+            "numbers[(*state[:place], value, *state[place + 1:])]", "numbers[*state, value]", "numbers[[*state]]",
+            "numbers[(*state, 1)] = 2", "del numbers[(*state, 1)]", "numbers[(1, (*state,))][0]",
+            "numbers[told(*state)]", "numbers[told(**named)]", "numbers[told({**named})]",
+            "state[told(*state):]", "state[0, told(*state):]", "[numbers[(*state,)] for state in states]",
+            "numbers[[*states][0]]",
+        ):
+            with self.subTest(row):
+                self.assertEqual(rows_with_starred_index(f"x = 1\n{row}\n"), [2])
+        self.assertEqual(rows_with_starred_index("numbers[\n    (\n        *state,\n    )\n]\n"), [3])
+
+    def test_stars_outside_an_index_are_let_by(self):
+        for row in (
+            "(*state[:place], value, *state[place + 1:])", "(*state, 1)[0]", "[*states][0]", "told(*states[0])",
+            "told(*states)[0]", "told(**named[0])", "{**named, 'a': state[0]}", "numbers[place * 2]",
+            "numbers[place ** 2]", "first, *rest = states[0]",
+        ):
+            with self.subTest(row):
+                self.assertEqual(rows_with_starred_index(row), [])
 
     def test_sets_are_sorted_or_measured_at_once(self):
         for path in self.each():
